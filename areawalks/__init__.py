@@ -1,0 +1,1 @@
+"""Walks on squares that keep count of an area."""

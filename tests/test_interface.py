@@ -1,0 +1,70 @@
+"""Promises 2 and 39 to 45: names and arguments, each defined where the interface lists it."""
+
+import importlib
+import inspect
+import unittest
+
+FUNCTIONS = {
+    "places": {"home_place": "", "product_of": "places"},
+    "least": {
+        "steps": "place", "distance": "one other", "least_walk": "place", "walk_of": "place number",
+        "areas": "x y number", "nearer": "place", "first_letters": "place", "is_summit": "place",
+        "lies_between": "place one other"},
+    "spheres": {
+        "sphere": "number", "ball": "number", "sphere_places": "number", "walks_to": "place number",
+        "least_walks": "place"},
+    "recipes": {"brewed": "told recipe"},
+    "tables": {"table_bars": "bar table place"}}
+
+CLASSES = {
+    "places": {"Place": {
+        "__init__": "self x y area", "__eq__": "self other", "__mul__": "self other", "__invert__": "self",
+        "power": "self number", "is_home": "self", "lifted": "self storeys", "twist": "self other"}},
+    "walks": {"Walk": {
+        "__init__": "self told", "__eq__": "self other", "__mul__": "self other", "__invert__": "self",
+        "place": "self", "letters": "self", "head": "self number", "tail": "self number", "at": "self number",
+        "sides": "self", "turned": "self quarters", "mirrored": "self", "repeated": "self number",
+        "is_least": "self", "first_not_least": "self"}},
+    "tables": {
+        "Table": {
+            "__init__": "self told", "__eq__": "self other", "__contains__": "self place", "figures": "self place",
+            "rest": "self place", "bar": "self place", "common": "self other", "joint": "self other",
+            "inside": "self other", "cosets": "self", "cosets_in": "self other", "is_normal": "self",
+            "moved": "self place", "power_in": "self place"},
+        "TableBar": {"__init__": "self form modulus remains"}}}
+
+
+def arguments_of(function):
+    return " ".join(inspect.signature(function).parameters)
+
+
+class InterfaceTest(unittest.TestCase):
+    def test_functions(self):
+        for name, functions in FUNCTIONS.items():
+            module = importlib.import_module("areawalks." + name)
+            for function, arguments in functions.items():
+                found = vars(module)[function]
+                self.assertEqual(found.__module__, module.__name__, function)
+                self.assertEqual(arguments_of(found), arguments, function)
+
+    def test_classes(self):
+        for name, classes in CLASSES.items():
+            module = importlib.import_module("areawalks." + name)
+            for told, methods in classes.items():
+                found = vars(module)[told]
+                self.assertEqual(found.__module__, module.__name__, told)
+                for method, arguments in methods.items():
+                    self.assertEqual(arguments_of(vars(found)[method]), arguments, method)
+
+    def test_property(self):
+        walks = importlib.import_module("areawalks.walks")
+        self.assertIsInstance(vars(walks.Walk)["length"], property)
+
+    def test_objects_are_no_keys(self):
+        for name, told, arguments in (("places", "Place", (0, 0, 0)), ("walks", "Walk", ("",)), ("tables", "Table", ([],))):
+            value = getattr(importlib.import_module("areawalks." + name), told)(*arguments)
+            self.assertRaises(TypeError, hash, value)
+
+
+if __name__ == "__main__":
+    unittest.main()
