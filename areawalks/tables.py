@@ -207,8 +207,6 @@ def kept_places(places, values, modulus):
 def raised(place, home, other):
     """The place lifted by a multiple of the home number so that it is in the other table too."""
     height = height_over(other.ledge, place)
-    if home == 0 or height == 0:
-        return place
     if other.home == 0:
         return place.lifted(-height)
     common = gcd(home, other.home)
