@@ -1,5 +1,6 @@
 """Promises 2, 6, 8, 43 and 61: how many places and walks there are."""
 
+import itertools
 import unittest
 
 from areawalks.errors import BadNumber, BadPlace, TooFar
@@ -10,6 +11,14 @@ from tests.samples import (
     HUGE, assert_raises, figures_of, listed_steps, listed_walks, no_places, no_whole_numbers)
 
 FEWEST = listed_steps(12)
+
+
+def binomial(number, part):
+    """How many choices of so many parts there are, for great numbers too."""
+    product = 1
+    for at in range(part):
+        product = product * (number - at) // (at + 1)
+    return product
 
 
 def counted_areas(number):
@@ -35,9 +44,16 @@ class NumbersTest(unittest.TestCase):
             self.assertEqual(sphere(number), numbers.count(number))
             self.assertEqual(ball(number), len([other for other in numbers if other <= number]))
 
+    def test_all_places_within_26_steps(self):
+        numbers = [0] * 27
+        for number in listed_steps(26).values():
+            numbers[number] += 1
+        self.assertEqual([sphere(number) for number in range(27)], numbers)
+        self.assertEqual([ball(number) for number in range(27)], list(itertools.accumulate(numbers)))
+
     def test_counted_areas(self):
-        # From 60 on the program reckons instead of counting squares.
-        for number in (13, 24, 47, 58, 59, 60, 61, 62, 71, 72, 73, 84, 95):
+        # Four numbers for each remainder by 12 fix its polynomial; some are beyond them.
+        for number in [*range(2, 62), 71, 72, 73, 84, 95]:
             count, before = counted_areas(number), counted_areas(number - 1)
             self.assertEqual(sphere(number), count - counted_areas(number - 2), number)
             self.assertEqual(ball(number), count + before, number)
@@ -58,6 +74,17 @@ class NumbersTest(unittest.TestCase):
                     row = [later - earlier for earlier, later in zip(row, row[1:])]
                 self.assertEqual(len(set(row)), 1)
                 self.assertNotEqual(row[0], 0)
+
+    def test_great_numbers_by_counted_ones(self):
+        for first in range(2, 14):
+            row = [sphere(first + 12 * turn) for turn in range(4)]
+            for turn in (9, HUGE):
+                # Newton's differences lead from the counted numbers to all others.
+                left, total = row, 0
+                for order in range(4):
+                    total += left[0] * binomial(turn, order)
+                    left = [later - earlier for earlier, later in zip(left, left[1:])]
+                self.assertEqual(sphere(first + 12 * turn), total)
 
     def test_great_numbers(self):
         for number in (HUGE, 10 ** 120 - 1, 12 * 10 ** 118):
@@ -118,6 +145,31 @@ class WalksToTest(unittest.TestCase):
         self.assertEqual(walks_to(home_place(), 1), 0)
         self.assertEqual(walks_to(Place(0, 0, 1), 0), 0)
         self.assertEqual(least_walks(home_place()), 1)
+
+    def test_walks_cut_in_two(self):
+        fronts = [listed_walks(number) for number in range(9)]
+        for point, number in (((0, 0, 0), 8), ((1, -2, 1), 13), ((-3, 2, -4), 15), ((0, 0, 5), 20), ((2, 4, 30), 20)):
+            place = Place(*point)
+            for cut in range(min(number, 8) + 1):
+                whole = sum(
+                    count * walks_to(~Place(*front) * place, number - cut) for front, count in fronts[cut].items())
+                self.assertEqual(walks_to(place, number), whole)
+
+    def test_turned_mirrored_and_walked_back(self):
+        for point, number in (((0, 0, 1), 4), ((1, 2, 3), 9), ((3, -1, -5), 14), ((-2, -4, 20), 20), ((5, 0, 7), 13)):
+            place = Place(*point)
+            turned = Place(-place.y, place.x, place.area - place.x * place.y)
+            mirrored = Place(-place.x, place.y, -place.area)
+            self.assertGreater(walks_to(place, number), 0)
+            for other in (~place, turned, mirrored):
+                self.assertEqual(walks_to(other, number), walks_to(place, number))
+
+    def test_no_walks(self):
+        for number in range(21):
+            self.assertEqual(walks_to(Place(number & 1 ^ 1, 0, 0), number), 0)
+            self.assertEqual(walks_to(Place(number + 1, 0, 0), number), 0)
+            self.assertEqual(walks_to(Place(number // 2, number - number // 2, number ** 2 // 4 + 1), number), 0)
+            self.assertEqual(walks_to(Place(number // 2, number - number // 2, -1), number), 0)
 
     def test_places_far_away(self):
         self.assertEqual(walks_to(Place(HUGE, -HUGE, HUGE), 20), 0)
