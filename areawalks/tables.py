@@ -9,6 +9,7 @@ from areawalks.ledges import ledge_forms, order_of, reduced
 from areawalks.making import made_numbers
 from areawalks.places import Place, check_place, check_places
 from areawalks.recipes import Brew
+from areawalks.solving import kept_places
 
 MOST_TOLD = 8
 
@@ -180,28 +181,6 @@ def ends_volume(table):
     if len(table.ledge) == 1:
         return gcd(first.x, first.y)
     return first.x * table.ledge[1].y
-
-
-def kept_places(places, values, modulus):
-    """Places over the ends of just those products of at most two places whose values the modulus divides.
-
-    The values are told for the places; the value of a product is the sum of theirs.
-    """
-    if len(places) == 0:
-        return []
-    high, top = places[0], values[0]
-    kept = []
-    if len(places) == 2:
-        low, bottom = places[1], values[1]
-        while bottom != 0:
-            times = top // bottom
-            high, low = low, high * low.power(-times)
-            top, bottom = bottom, top - times * bottom
-        kept.append(low)
-    number = order_of(top, modulus)
-    if number is not None:
-        kept.append(high.power(number))
-    return kept
 
 
 def raised(place, home, other):

@@ -1,7 +1,9 @@
 """What several tests need: values of every kind, and walks listed one by one."""
 
+from areawalks.forwards import Forward
 from areawalks.places import Place
 from areawalks.tables import Table, TableBar
+from areawalks.views import ViewBar
 from areawalks.walks import Walk
 
 HUGE = 10 ** 119 + 7
@@ -21,7 +23,8 @@ def values_of_all_kinds():
     return [
         None, True, False, 0, 1, -1, 5, HUGE, -HUGE, "", "e", "5", "walk", "enwsx", (), (1,), (1, 2, 3), [], [1, 2],
         ["e"], [("e", 1), ("x", 2)], {}, {"e": 1}, {1: 2}, nested(20), (nested(18),), {"a": nested(18)},
-        Place(1, 2, 3), Walk("en"), Table([Place(1, 0, 0)]), TableBar((1, 0), 2, 1)]
+        Place(1, 2, 3), Walk("en"), Table([Place(1, 0, 0)]), TableBar((1, 0), 2, 1), Forward([Place(1, 0, 0)]),
+        ViewBar([1], 2)]
 
 
 def is_integer(value):

@@ -14,7 +14,14 @@ FUNCTIONS = {
         "sphere": "number", "ball": "number", "sphere_places": "number", "walks_to": "place number",
         "least_walks": "place"},
     "recipes": {"brewed": "told recipe"},
-    "tables": {"table_bars": "bar table place"}}
+    "tables": {"table_bars": "bar table place"},
+    "cosets": {
+        "in_product": "one other place", "coset_place": "one here other there", "least_moved": "table",
+        "viewed": "one other"},
+    "indexes": {"count_tables": "index *normal", "tables_of": "index *normal *most"},
+    "views": {
+        "seen_from": "place here", "viewpoint": "place other", "viewpoint_of_all": "places others",
+        "view_bar": "places others", "is_bar": "bar places others"}}
 
 CLASSES = {
     "places": {"Place": {
@@ -31,11 +38,16 @@ CLASSES = {
             "rest": "self place", "bar": "self place", "common": "self other", "joint": "self other",
             "inside": "self other", "cosets": "self", "cosets_in": "self other", "is_normal": "self",
             "moved": "self place", "power_in": "self place"},
-        "TableBar": {"__init__": "self form modulus remains"}}}
+        "TableBar": {"__init__": "self form modulus remains"}},
+    "forwards": {"Forward": {
+        "__init__": "self told", "table": "self", "has": "self place", "recipe_of": "self place"}},
+    "views": {"ViewBar": {"__init__": "self numbers modulus"}}}
 
 
 def arguments_of(function):
-    return " ".join(inspect.signature(function).parameters)
+    """The names of the arguments, with a star for each one that is passed by name only."""
+    parts = inspect.signature(function).parameters.values()
+    return " ".join("*" * (part.kind is part.KEYWORD_ONLY) + part.name for part in parts)
 
 
 class InterfaceTest(unittest.TestCase):
