@@ -13,7 +13,8 @@ def seen_from(place, here):
     """The Place as which the place is seen from here."""
     check_place(place)
     check_place(here)
-    return here * place * ~here
+    # This is here * place * ~here.
+    return place.lifted(here.twist(place))
 
 
 def viewpoint(place, other):

@@ -2,6 +2,7 @@
 
 from areawalks.forwards import Forward
 from areawalks.places import Place
+from areawalks.renamings import Renaming
 from areawalks.tables import Table, TableBar
 from areawalks.views import ViewBar
 from areawalks.walks import Walk
@@ -24,7 +25,7 @@ def values_of_all_kinds():
         None, True, False, 0, 1, -1, 5, HUGE, -HUGE, "", "e", "5", "walk", "enwsx", (), (1,), (1, 2, 3), [], [1, 2],
         ["e"], [("e", 1), ("x", 2)], {}, {"e": 1}, {1: 2}, nested(20), (nested(18),), {"a": nested(18)},
         Place(1, 2, 3), Walk("en"), Table([Place(1, 0, 0)]), TableBar((1, 0), 2, 1), Forward([Place(1, 0, 0)]),
-        ViewBar([1], 2)]
+        ViewBar([1], 2), Renaming(Place(1, 0, 0), Place(0, 1, 0))]
 
 
 def is_integer(value):
@@ -98,14 +99,19 @@ def listed_steps(most):
     return found
 
 
+def listed_further(counts):
+    """How many walks lead to each (x, y, area) one step further."""
+    further = {}
+    for point, count in counts.items():
+        for letter in "enws":
+            end = stepped(point, letter)
+            further[end] = further.get(end, 0) + count
+    return further
+
+
 def listed_walks(number):
     """How many walks of so many steps lead to each (x, y, area)."""
     counts = {(0, 0, 0): 1}
     for _ in range(number):
-        further = {}
-        for point, count in counts.items():
-            for letter in "enws":
-                end = stepped(point, letter)
-                further[end] = further.get(end, 0) + count
-        counts = further
+        counts = listed_further(counts)
     return counts

@@ -21,7 +21,13 @@ FUNCTIONS = {
     "indexes": {"count_tables": "index *normal", "tables_of": "index *normal *most"},
     "views": {
         "seen_from": "place here", "viewpoint": "place other", "viewpoint_of_all": "places others",
-        "view_bar": "places others", "is_bar": "bar places others"}}
+        "view_bar": "places others", "is_bar": "bar places others"},
+    "roots": {
+        "root": "place number", "greatest_root": "place", "along": "place", "figures_along": "place other",
+        "powers_to": "one other goal"},
+    "renamings": {"same_names": "", "renaming_of_view": "here"},
+    "alikes": {
+        "list_key": "places", "alike": "places others", "lot_key": "places", "alike_lots": "places others"}}
 
 CLASSES = {
     "places": {"Place": {
@@ -41,7 +47,11 @@ CLASSES = {
         "TableBar": {"__init__": "self form modulus remains"}},
     "forwards": {"Forward": {
         "__init__": "self told", "table": "self", "has": "self place", "recipe_of": "self place"}},
-    "views": {"ViewBar": {"__init__": "self numbers modulus"}}}
+    "views": {"ViewBar": {"__init__": "self numbers modulus"}},
+    "renamings": {"Renaming": {
+        "__init__": "self east north", "__eq__": "self other", "__call__": "self place", "__mul__": "self other",
+        "__invert__": "self", "factor": "self", "power": "self number", "order": "self", "index": "self",
+        "keeps_steps": "self"}}}
 
 
 def arguments_of(function):

@@ -20,12 +20,13 @@ BUILTINS = set(
     "isinstance ord repr any all divmod iter next map super property staticmethod classmethod Exception ValueError "
     "TypeError KeyError IndexError LookupError ZeroDivisionError ArithmeticError OverflowError RuntimeError "
     "NotImplementedError AttributeError StopIteration NotImplemented object".split())
-METHODS = set(
+PLAIN_METHODS = set(
     "append clear copy count endswith extend find get index insert isalnum isalpha isdigit islower isspace isupper "
     "items join keys ljust lower lstrip partition pop remove replace reverse rfind rjust rpartition rsplit rstrip "
-    "setdefault split splitlines startswith strip update upper values zfill bit_length title capitalize swapcase "
-    "casefold center expandtabs removeprefix removesuffix rindex isascii isdecimal isnumeric istitle isidentifier "
-    "isprintable translate add discard".split())
+    "setdefault split splitlines startswith strip update upper values zfill bit_length add discard".split())
+METHODS = PLAIN_METHODS | set(
+    "title capitalize swapcase casefold center expandtabs removeprefix removesuffix rindex isascii isdecimal isnumeric "
+    "istitle isidentifier isprintable translate".split())
 SPECIAL = set(
     "__init__ __eq__ __repr__ __str__ __len__ __enter__ __exit__ __call__ __iter__ __lt__ __le__ __gt__ __ge__ __ne__ "
     "__add__ __sub__ __mul__ __floordiv__ __mod__ __pow__ __and__ __or__ __xor__ __lshift__ __rshift__ __neg__ "
@@ -252,7 +253,8 @@ class LanguageTest(unittest.TestCase):
         assigned = {
             node.attr for _, node in self.nodes(ast.Attribute) if isinstance(node.ctx, ast.Store)}
         self.assertFalse(assigned & native, "L26")
-        self.assertFalse({name for name in methods if not name.startswith("__")} & native, "L26")
+        # Methods may have the names of the plain methods that L25 lists first.
+        self.assertFalse({name for name in methods if not name.startswith("__")} & native - PLAIN_METHODS, "L26")
         for place, node in self.nodes(ast.Attribute):
             if isinstance(node.parent, ast.Call) and node.parent.func is node:
                 self.assertTrue(node.attr in METHODS or node.attr in methods, f"L25 {place}")

@@ -8,7 +8,7 @@ from areawalks.least import areas, steps
 from areawalks.places import Place, home_place
 from areawalks.spheres import ball, least_walks, sphere, sphere_places, walks_to
 from tests.samples import (
-    HUGE, assert_raises, figures_of, listed_steps, listed_walks, no_places, no_whole_numbers)
+    HUGE, assert_raises, figures_of, listed_further, listed_steps, listed_walks, no_places, no_whole_numbers)
 
 FEWEST = listed_steps(12)
 
@@ -147,13 +147,16 @@ class WalksToTest(unittest.TestCase):
         self.assertEqual(least_walks(home_place()), 1)
 
     def test_walks_cut_in_two(self):
-        fronts = [listed_walks(number) for number in range(9)]
-        for point, number in (((0, 0, 0), 8), ((1, -2, 1), 13), ((-3, 2, -4), 15), ((0, 0, 5), 20), ((2, 4, 30), 20)):
-            place = Place(*point)
-            for cut in range(min(number, 8) + 1):
-                whole = sum(
-                    count * walks_to(~Place(*front) * place, number - cut) for front, count in fronts[cut].items())
-                self.assertEqual(walks_to(place, number), whole)
+        ends = [((0, 0, 0), 8), ((1, -2, 1), 13), ((-3, 2, -4), 15), ((2, 4, 30), 20), ((-20, 0, 0), 20)]
+        fronts = {(0, 0, 0): 1}
+        for cut in range(21):
+            for point, number in ends:
+                if cut <= number and (number < 20 or cut < 9 or cut > 17):
+                    whole = sum(
+                        count * walks_to(~Place(*front) * Place(*point), number - cut)
+                        for front, count in fronts.items())
+                    self.assertEqual(walks_to(Place(*point), number), whole)
+            fronts = listed_further(fronts)
 
     def test_turned_mirrored_and_walked_back(self):
         for point, number in (((0, 0, 1), 4), ((1, 2, 3), 9), ((3, -1, -5), 14), ((-2, -4, 20), 20), ((5, 0, 7), 13)):
