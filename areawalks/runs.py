@@ -1,7 +1,7 @@
 """Runs: pairs of a letter and the number of times that this step is taken."""
 
 from areawalks.checks import is_whole
-from areawalks.places import Place, home_place
+from areawalks.places import Place
 
 LETTERS = "enws"
 MOST_RUNS = 10000
@@ -45,23 +45,43 @@ def joined_runs(pairs):
     return tuple(runs)
 
 
+class Ready:
+    """Runs that are known to be those of a walk, so that no walk looks at them again."""
+
+    def __init__(self, runs):
+        self.runs = runs
+
+
 def told_runs(told):
-    """The runs of a text or of pairs, None for any other value."""
+    """The runs of a text, of pairs or of Ready, None for any other value."""
+    if isinstance(told, Ready):
+        return told.runs
     if not isinstance(told, (str, list, tuple)) or len(told) > MOST_RUNS:
         return None
-    pairs = told
     if isinstance(told, str):
-        pairs = [(letter, 1) for letter in told]
-    if not all([is_run(pair) for pair in pairs]):
+        # Stripped of the letters, a text of them is empty.
+        return joined_runs([(letter, 1) for letter in told]) if told.strip(LETTERS) == "" else None
+    if not all([is_run(pair) for pair in told]):
         return None
-    return joined_runs(pairs)
+    return joined_runs(told)
+
+
+def put_together(front, behind):
+    """The runs of one walk with those of another one behind them."""
+    if len(front) == 0 or len(behind) == 0 or front[-1][0] != behind[0][0]:
+        return front + behind
+    letter, times = front[-1]
+    return front[:-1] + ((letter, times + behind[0][1]),) + behind[1:]
 
 
 def corners(runs):
-    """The places at the beginning and behind each run."""
-    place = home_place()
-    places = [place]
+    """The x, y and area at the beginning and behind each run."""
+    x, y, area = 0, 0, 0
+    points = [(x, y, area)]
     for letter, times in runs:
-        place = place * run_place(letter, times)
-        places.append(place)
-    return places
+        across, up = DIRECTIONS[letter]
+        area = area + x * up * times
+        x = x + across * times
+        y = y + up * times
+        points.append((x, y, area))
+    return points

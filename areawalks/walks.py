@@ -3,7 +3,8 @@
 from areawalks.checks import check_integer, check_whole, is_whole
 from areawalks.errors import BadNumber, BadWord, TooMany
 from areawalks.ground import fewest_steps
-from areawalks.runs import MOST_RUNS, corners, joined_runs, run_place, told_runs, turned_letter
+from areawalks.places import Place
+from areawalks.runs import MOST_RUNS, Ready, corners, joined_runs, put_together, run_place, told_runs, turned_letter
 
 MIRRORED = {"e": "w", "n": "n", "w": "e", "s": "s"}
 
@@ -24,11 +25,11 @@ class Walk:
         """This walk, then the other one."""
         if not isinstance(other, Walk):
             return NotImplemented
-        return joined_walk(self.runs + other.runs)
+        return ready_walk(put_together(self.runs, other.runs))
 
     def __invert__(self):
         """The walk back."""
-        return Walk([(turned_letter(letter, 2), times) for letter, times in reversed(self.runs)])
+        return ready_walk([(turned_letter(letter, 2), times) for letter, times in self.runs[::-1]])
 
     @property
     def length(self):
@@ -37,7 +38,8 @@ class Walk:
 
     def place(self):
         """The Place to which the walk leads."""
-        return corners(self.runs)[-1]
+        x, y, area = corners(self.runs)[-1]
+        return Place(x, y, area)
 
     def letters(self):
         """The text of the walk."""
@@ -54,7 +56,7 @@ class Walk:
             taken = min(times, left)
             runs.append((letter, taken))
             left = left - taken
-        return Walk(runs)
+        return ready_walk(joined_runs(runs))
 
     def tail(self, number):
         """The Walk of the steps behind the first ones, so many."""
@@ -65,7 +67,7 @@ class Walk:
             passed = min(times, left)
             runs.append((letter, times - passed))
             left = left - passed
-        return Walk(runs)
+        return ready_walk(joined_runs(runs))
 
     def at(self, number):
         """The Place to which the first steps lead, so many."""
@@ -73,31 +75,31 @@ class Walk:
 
     def sides(self):
         """The least x, the greatest x, the least y and the greatest y on the way."""
-        places = corners(self.runs)
-        xs = [place.x for place in places]
-        ys = [place.y for place in places]
+        points = corners(self.runs)
+        xs = [point[0] for point in points]
+        ys = [point[1] for point in points]
         return min(xs), max(xs), min(ys), max(ys)
 
     def turned(self, quarters):
         """The Walk with all steps turned by so many quarters."""
         check_integer(quarters)
-        return Walk([(turned_letter(letter, quarters), times) for letter, times in self.runs])
+        return ready_walk([(turned_letter(letter, quarters), times) for letter, times in self.runs])
 
     def mirrored(self):
         """The Walk with east and west exchanged."""
-        return Walk([(MIRRORED[letter], times) for letter, times in self.runs])
+        return ready_walk([(MIRRORED[letter], times) for letter, times in self.runs])
 
     def repeated(self, number):
         """The Walk done so many times."""
         check_whole(number)
         count = len(self.runs)
         if count < 2:
-            return Walk([(letter, times * number) for letter, times in self.runs])
+            return ready_walk(joined_runs([(letter, times * number) for letter, times in self.runs]))
         # At least so many runs are left where ends of one letter join;
         # refused here, a great number makes no long tuple.
         if (count - 1) * number > MOST_RUNS:
             raise TooMany(MOST_RUNS)
-        return joined_walk(self.runs * number)
+        return ready_walk(joined_runs(self.runs * number))
 
     def is_least(self):
         """Whether no shorter walk leads to the same place."""
@@ -105,7 +107,7 @@ class Walk:
 
     def first_not_least(self):
         """The length of the shortest beginning that is not least, None if there is none."""
-        places = corners(self.runs)
+        places = [Place(*point) for point in corners(self.runs)]
         done = 0
         for at, (letter, times) in enumerate(self.runs):
             if fewest_steps(places[at + 1]) != done + times:
@@ -114,12 +116,11 @@ class Walk:
         return None
 
 
-def joined_walk(pairs):
-    """The Walk of pairs whose runs, once joined, may be too many."""
-    runs = joined_runs(pairs)
+def ready_walk(runs):
+    """The Walk of runs that are those of a walk, unless they are too many."""
     if len(runs) > MOST_RUNS:
         raise TooMany(MOST_RUNS)
-    return Walk(runs)
+    return Walk(Ready(tuple(runs)))
 
 
 def check_part(walk, number):
