@@ -19,7 +19,12 @@ def check_integer(value):
         raise BadNumber(value)
 
 
+def check_from(value, least):
+    """Refuses what is not an integer from the least one on."""
+    if not is_integer(value) or value < least:
+        raise BadNumber(value)
+
+
 def check_whole(value):
     """Refuses what is not an integer from 0 on."""
-    if not is_whole(value):
-        raise BadNumber(value)
+    check_from(value, 0)

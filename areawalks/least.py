@@ -1,10 +1,10 @@
 """Fewest steps, least walks and walks of a told number of steps."""
 
 from areawalks.checks import check_integer, check_whole
+from areawalks.framed import framed_walk
 from areawalks.ground import areas_of_walks, best_sides, fewest_steps, spare_steps
 from areawalks.places import check_place
 from areawalks.runs import LETTERS, run_place
-from areawalks.walks import Walk
 
 
 def steps(place):
@@ -74,32 +74,6 @@ def lies_between(place, one, other):
 
 def built_walk(place, number):
     """A Walk of so many steps, which is a number that leads to the place."""
-    across, up, area, letters = upright(place)
-    spare = spare_steps(across, up, number)
-    width, height = best_sides(across, up, spare)
-    climbed = climb(width, height, area)
-    runs = [("s", height - up), *climbed, ("w", width - across)]
-    return Walk([(letters[letter], times) for letter, times in runs])
-
-
-def upright(place):
-    """The place as turns and mirrors bring it to x and y from 0 on and an area from x * y / 2 on.
-
-    Returned are its x, y and area, and the letters that its letters stand for.
-    """
-    east, west = ("w", "e") if place.x < 0 else ("e", "w")
-    north, south = ("s", "n") if place.y < 0 else ("n", "s")
     across, up = abs(place.x), abs(place.y)
-    area = place.area if (place.x < 0) == (place.y < 0) else -place.area
-    if 2 * area >= across * up:
-        return across, up, area, {"e": east, "n": north, "w": west, "s": south}
-    return up, across, across * up - area, {"e": north, "n": east, "w": south, "s": west}
-
-
-def climb(width, height, area):
-    """The runs of a walk so far east and so far north, without other steps, that has the area."""
-    if height == 0:
-        return [("e", width)]
-    full, extra = divmod(area, height)
-    bend = min(1, width - full)
-    return [("e", full), ("n", height - extra), ("e", bend), ("n", extra), ("e", width - full - bend)]
+    width, height = best_sides(across, up, spare_steps(across, up, number))
+    return framed_walk(place, width, height)

@@ -1,7 +1,14 @@
 """What several tests need: values of every kind, and walks listed one by one."""
 
+from areawalks.book import Book
+from areawalks.closed import Closed
+from areawalks.formulas import Formula
 from areawalks.forwards import Forward
+from areawalks.kings import KingWalk
+from areawalks.lots import Lot
 from areawalks.places import Place
+from areawalks.prices import Prices
+from areawalks.promises import Along, Between, Cheap, Same, Within
 from areawalks.renamings import Renaming
 from areawalks.tables import Table, TableBar
 from areawalks.views import ViewBar
@@ -25,7 +32,9 @@ def values_of_all_kinds():
         None, True, False, 0, 1, -1, 5, HUGE, -HUGE, "", "e", "5", "walk", "enwsx", (), (1,), (1, 2, 3), [], [1, 2],
         ["e"], [("e", 1), ("x", 2)], {}, {"e": 1}, {1: 2}, nested(20), (nested(18),), {"a": nested(18)},
         Place(1, 2, 3), Walk("en"), Table([Place(1, 0, 0)]), TableBar((1, 0), 2, 1), Forward([Place(1, 0, 0)]),
-        ViewBar([1], 2), Renaming(Place(1, 0, 0), Place(0, 1, 0))]
+        ViewBar([1], 2), Renaming(Place(1, 0, 0), Place(0, 1, 0)), Lot(1, 2, 3, 4), Prices(1, 2, 3, 4),
+        KingWalk([("ne", 2)]), Closed(Table([Place(1, 0, 0), Place(0, 1, 0)])), Formula("a"), Same("a", "b"),
+        Along("a", "b"), Between("a", 0, 1), Cheap("a", Prices(1, 1, 1, 1), 5), Within("a", Table([])), Book()]
 
 
 def is_integer(value):

@@ -1,4 +1,4 @@
-"""Promises 2 and 39 to 45: names and arguments, each defined where the interface lists it."""
+"""Promises 2 and 39 to 60: names and arguments, each defined where the interface lists it."""
 
 import importlib
 import inspect
@@ -27,7 +27,10 @@ FUNCTIONS = {
         "powers_to": "one other goal"},
     "renamings": {"same_names": "", "renaming_of_view": "here"},
     "alikes": {
-        "list_key": "places", "alike": "places others", "lot_key": "places", "alike_lots": "places others"}}
+        "list_key": "places", "alike": "places others", "lot_key": "places", "alike_lots": "places others"},
+    "kings": {"king_most": "number", "king_least": "swept", "king_round": "number swept"},
+    "paths": {
+        "paths": "x y area", "paths_by_rest": "x y modulus rest", "far_paths": "x y modulus rest prime"}}
 
 CLASSES = {
     "places": {"Place": {
@@ -51,7 +54,30 @@ CLASSES = {
     "renamings": {"Renaming": {
         "__init__": "self east north", "__eq__": "self other", "__call__": "self place", "__mul__": "self other",
         "__invert__": "self", "factor": "self", "power": "self number", "order": "self", "index": "self",
-        "keeps_steps": "self"}}}
+        "keeps_steps": "self"}},
+    "lots": {"Lot": {
+        "__init__": "self east north west south", "__eq__": "self other", "ends": "self", "swept_areas": "self",
+        "walk_with": "self area"}},
+    "prices": {"Prices": {
+        "__init__": "self east north west south", "__eq__": "self other", "price_of": "self walk",
+        "least_price": "self place", "cheapest": "self place", "frame": "self place"}},
+    "kings": {"KingWalk": {"__init__": "self told", "__eq__": "self other", "ends": "self", "swept": "self"}},
+    "closed": {"Closed": {
+        "__init__": "self basis", "rest_of": "self place", "steps_between": "self one other",
+        "walk_between": "self one other", "least_round": "self", "spread": "self *most"}},
+    "formulas": {"Formula": {
+        "__init__": "self text", "__eq__": "self other", "names": "self", "place": "self walks"}},
+    "promises": {
+        "Same": {"__init__": "self text second", "is_kept": "self walks"},
+        "Along": {"__init__": "self text second", "is_kept": "self walks"},
+        "Between": {"__init__": "self text low high", "is_kept": "self walks"},
+        "Cheap": {"__init__": "self text prices most", "is_kept": "self walks"},
+        "Within": {"__init__": "self text basis", "is_kept": "self walks"}},
+    "book": {"Book": {
+        "__init__": "self", "put": "self name walk", "go_on": "self name walk", "take": "self name",
+        "keep": "self name promise", "free": "self name", "__getitem__": "self name", "__contains__": "self name",
+        "__len__": "self", "names": "self", "promises": "self", "place": "self text", "undo": "self",
+        "undoable": "self", "attempt": "self action", "explore": "self action"}}}
 
 
 def arguments_of(function):
@@ -78,12 +104,19 @@ class InterfaceTest(unittest.TestCase):
                 for method, arguments in methods.items():
                     self.assertEqual(arguments_of(vars(found)[method]), arguments, method)
 
-    def test_property(self):
-        walks = importlib.import_module("areawalks.walks")
-        self.assertIsInstance(vars(walks.Walk)["length"], property)
+    def test_properties(self):
+        for name, told in (("walks", "Walk"), ("kings", "KingWalk")):
+            found = vars(importlib.import_module("areawalks." + name))[told]
+            self.assertIsInstance(vars(found)["length"], property)
+
+    def test_default(self):
+        closed = importlib.import_module("areawalks.closed")
+        self.assertEqual(inspect.signature(closed.Closed.spread).parameters["most"].default, 5000)
 
     def test_objects_are_no_keys(self):
-        for name, told, arguments in (("places", "Place", (0, 0, 0)), ("walks", "Walk", ("",)), ("tables", "Table", ([],))):
+        for name, told, arguments in (
+                ("places", "Place", (0, 0, 0)), ("walks", "Walk", ("",)), ("tables", "Table", ([],)),
+                ("lots", "Lot", (0, 0, 0, 0)), ("formulas", "Formula", ("a",))):
             value = getattr(importlib.import_module("areawalks." + name), told)(*arguments)
             self.assertRaises(TypeError, hash, value)
 

@@ -59,6 +59,7 @@ def trees():
 
 
 TREES = trees()
+OWN_ERRORS = {node.name for node in TREES[PACKAGE / "errors.py"].body if isinstance(node, ast.ClassDef)}
 
 
 def module_of(path):
@@ -271,6 +272,31 @@ class LanguageTest(unittest.TestCase):
             looped = isinstance(parent, (ast.For, ast.comprehension)) and parent.iter is node
             taken = isinstance(parent, ast.Call) and getattr(parent.func, "id", "") in TAKERS
             self.assertTrue(looped or taken, f"L23 {place}")
+
+    def test_reversed(self):
+        # A class of the package has __getitem__, so not even tuples are reversed straight.
+        for place, node in self.nodes(ast.Call):
+            if getattr(node.func, "id", "") == "reversed":
+                taker = getattr(getattr(node.args[0], "func", None), "id", "")
+                self.assertIn(taker, ("list", "tuple", "sorted", "range"), f"L5 {place}")
+
+    def test_classes_with_items(self):
+        for place, node in self.nodes(ast.ClassDef):
+            methods = [part.name for part in node.body if isinstance(part, ast.FunctionDef)]
+            self.assertTrue("__getitem__" not in methods or "__iter__" in methods, f"L5 {place}")
+        for path in FILES:
+            self.assertNotRegex(path.read_text(encoding="utf-8"), r"\(type\)|Meta|metaclass=", f"L17 {path}")
+
+    def test_finally(self):
+        for place, node in self.nodes(ast.Try):
+            for part in node.finalbody:
+                self.assertIsInstance(part, ast.Assign, f"L6 {place}")
+                for value in ast.walk(part):
+                    plain = (ast.Assign, ast.Tuple, ast.Name, ast.Attribute, ast.expr_context)
+                    self.assertIsInstance(value, plain, f"L6 {place}")
+            for handler in node.handlers:
+                self.assertIsInstance(handler.type, ast.Name, f"L19 {place}")
+                self.assertIn(handler.type.id, OWN_ERRORS, f"L19 {place}")
 
     def test_stars(self):
         for place, node in self.nodes(ast.Call):
