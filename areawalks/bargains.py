@@ -40,9 +40,9 @@ class Bargain:
 
     def best(self):
         """A cheapest frame."""
-        # Were parts of units sold, this would be the best width, and the cost would rise on both sides of
-        # it. With whole units it is at most one dearer, so few widths are worth a look, if either
-        # the width is small or the cost rises fast; otherwise there are few costs that are worth one.
+        # Were parts of units sold, this would be the best width, and the cost would rise to both sides of
+        # it. Whole units make it dearer by less than one of them, so few widths are worth a look if the width
+        # is small or the cost rises fast. Otherwise frames are so many that few costs are without one.
         best = isqrt(self.high * self.product // self.wide)
         start = min(max(best, self.narrowest), self.widest)
         square = self.wide * start * start

@@ -4,8 +4,9 @@ from math import comb
 
 from areawalks.checks import check_from, check_whole
 from areawalks.errors import BadNumber, TooFar
-from areawalks.residues import binomial_rest, factorial_rests, inverse, is_prime
-from areawalks.shares import packed_paths, slot_of, weights
+from areawalks.indexes import divisors
+from areawalks.residues import binomial_rest, factorial_rests, figure_pairs, inverse, is_prime
+from areawalks.shares import packed_paths, slot_of, weight_of
 
 FARTHEST = 60
 FARTHEST_BY_REST = 2000
@@ -31,8 +32,10 @@ def paths_by_rest(x, y, modulus, rest):
     check_rest(modulus, rest)
     check_near(x, y, FARTHEST_BY_REST)
     total = 0
-    for part, weight in weights(x, y, modulus, rest):
-        total = total + weight * comb((x + y) // part, x // part)
+    for part in divisors(modulus):
+        weight = weight_of(x, y, part, rest)
+        if weight != 0:
+            total = total + weight * comb((x + y) // part, x // part)
     return total // modulus
 
 
@@ -43,10 +46,16 @@ def far_paths(x, y, modulus, rest, prime):
     check_rest(modulus, rest)
     if prime > MOST_PRIME or not is_prime(prime) or modulus % prime == 0:
         raise BadNumber(prime)
-    factorials = factorial_rests(min(x + y, prime - 1), prime)
-    total = 0
-    for part, weight in weights(x, y, modulus, rest):
-        total = total + weight * binomial_rest((x + y) // part, x // part, prime, factorials)
+    # Of most great numbers the prime divides all binomials, and no factorials are needed.
+    weighed = []
+    most = 0
+    for part in divisors(modulus):
+        pairs = figure_pairs((x + y) // part, x // part, prime)
+        if pairs is not None:
+            weighed.append((weight_of(x, y, part, rest), pairs))
+            most = max([most, *[pair[0] for pair in pairs]])
+    factorials = factorial_rests(most, prime)
+    total = sum([weight * binomial_rest(figures, prime, factorials) for weight, figures in weighed])
     return total * inverse(modulus, prime) % prime
 
 

@@ -15,22 +15,32 @@ def inverse(number, prime):
 
 
 def factorial_rests(most, prime):
-    """The rests of the factorials of 0 to most, which are below the prime."""
-    rests = [1]
+    """The rests by a prime of the factorials of 0 to most, which is below it."""
+    rest = 1
+    rests = [rest]
     for number in range(1, most + 1):
-        rests.append(rests[-1] * number % prime)
+        rest = rest * number % prime
+        rests.append(rest)
     return rests
 
 
-def binomial_rest(top, low, prime, factorials):
-    """The rest by a prime of a binomial, told the rests of all factorials of figures that top and low have."""
-    over, under = 1, 1
-    # Written in figures to the base of the prime, top and low have the binomial of all their figures.
+def figure_pairs(top, low, prime):
+    """The figures of two numbers, written to the base of a prime, side by side; None if it divides their binomial."""
+    pairs = []
     while top > 0:
         top, figure = divmod(top, prime)
         low, other = divmod(low, prime)
         if other > figure:
-            return 0
+            return None
+        pairs.append((figure, other))
+    return pairs
+
+
+def binomial_rest(pairs, prime, factorials):
+    """The rest of a binomial of which the pairs of figures are told, and the rests of their factorials."""
+    over, under = 1, 1
+    # But for multiples of the prime it is the product of the binomials of all pairs.
+    for figure, other in pairs:
         over = over * factorials[figure] % prime
         under = under * factorials[other] * factorials[figure - other] % prime
     return over * inverse(under, prime) % prime

@@ -35,18 +35,15 @@ def packed_paths(x, y, count, slot):
     return pack
 
 
-def weights(x, y, modulus, rest):
-    """The pairs (d, weight) of divisors of the modulus for which the weight is not 0.
-
-    The modulus times the number of paths to (x, y) whose areas leave this rest is the sum of each weight
-    times binomial(floor((x + y) / d), floor(x / d)).
-    """
-    pairs = [(part, weight_of(x % part, y % part, part, rest)) for part in divisors(modulus)]
-    return [(part, weight) for part, weight in pairs if weight != 0]
-
-
 def weight_of(x, y, part, rest):
-    """The sum of root ** (area - rest) over all paths to (x, y) and all roots of one of just this order."""
+    """How often binomial(floor((x + y) / part), floor(x / part)) counts in numbers of paths by their rests.
+
+    A modulus times the number of paths to (x, y) whose areas leave this rest by it is the sum of these
+    binomials, each times its weight, for all parts that divide the modulus. The weight is the sum of
+    root ** (area - rest) over the paths to the rests of x and y by the part, and the roots of one of just
+    this order.
+    """
+    x, y = x % part, y % part
     if x + y >= part:
         return 0
     slot = slot_of(x, y)

@@ -126,14 +126,16 @@ class ClosedTest(unittest.TestCase):
 
     def test_least_rounds(self):
         near = listed_steps(14)
-        for shape in SHAPES:
-            table = table_of(shape)
+        tables = [table_of(shape) for shape in SHAPES]
+        for index in (8, 9, 15):
+            tables.extend(tables_of(index, normal=True))
+        for table in tables:
             found = Closed(table).least_round()
             self.assertIn(found, table)
             self.assertFalse(found.is_home())
             rounds = [number for point, number in near.items() if number > 0 and Place(*point) in table]
             if rounds:
-                self.assertEqual(steps(found), min(rounds), shape)
+                self.assertEqual(steps(found), min(rounds), [figures_of(place) for place in table.ledge])
             else:
                 self.assertGreater(steps(found), 14)
 

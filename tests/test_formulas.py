@@ -170,7 +170,7 @@ class FormulaTest(unittest.TestCase):
     def test_wrong_values(self):
         for value in values_of_all_kinds():
             if not isinstance(value, str):
-                self.assertRaises(BadText, Formula, value)
+                assert_raises(self, BadText, {"number": 0}, Formula, value)
         for value in ("", "5"):
             assert_raises(self, BadText, {"number": len(value)}, Formula, value)
 

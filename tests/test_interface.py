@@ -4,6 +4,16 @@ import importlib
 import inspect
 import unittest
 
+from areawalks.alikes import alike_lots
+from areawalks.closed import Closed
+from areawalks.indexes import tables_of
+from areawalks.places import Place
+from areawalks.recipes import brewed
+from areawalks.roots import powers_to
+from areawalks.spheres import sphere_places
+from areawalks.tables import Table
+from areawalks.views import view_bar
+
 FUNCTIONS = {
     "places": {"home_place": "", "product_of": "places"},
     "least": {
@@ -112,6 +122,21 @@ class InterfaceTest(unittest.TestCase):
     def test_default(self):
         closed = importlib.import_module("areawalks.closed")
         self.assertEqual(inspect.signature(closed.Closed.spread).parameters["most"].default, 5000)
+
+    def test_lists_are_new(self):
+        told = [Place(2, 1, 0), Place(0, 3, 1)]
+        floor = Closed(Table([Place(2, 0, 0), Place(0, 2, 0), Place(0, 0, 2)]))
+        for call in (
+                lambda: brewed(told, [(1, 2, 2)]), lambda: sphere_places(2), lambda: tables_of(4),
+                lambda: powers_to(Place(2, 0, 0), Place(3, 0, 0), Place(1, 0, 0))[1],
+                lambda: alike_lots(told, told[::-1])[1], lambda: view_bar([Place(4, 6, 0)], [Place(4, 6, 1)]).numbers,
+                floor.spread):
+            first = call()
+            self.assertIs(first.__class__, list)
+            kept = list(first)
+            first.append("more")
+            self.assertEqual(call(), kept)
+        self.assertEqual(told, [Place(2, 1, 0), Place(0, 3, 1)])
 
     def test_objects_are_no_keys(self):
         for name, told, arguments in (

@@ -149,6 +149,20 @@ class RestsTest(unittest.TestCase):
                 before += far_paths(x, y - 1, modulus, (rest - x) % modulus, prime)
                 self.assertEqual(far_paths(x, y, modulus, rest, prime), before % prime)
 
+    def test_figures_that_do_not_carry(self):
+        # The prime does not divide the binomials of such numbers.
+        for prime in (7, 97, 4993, 4999):
+            x = sum(at * 37 % (prime // 2) * prime ** at for at in range(1, 26))
+            y = sum((at * 53 % (prime // 2) + 1) * prime ** at for at in range(1, 26))
+            for modulus, across in itertools.product((1, 8, 30), (0, 1, 2)):
+                numbers = [far_paths(x + across, y, modulus, rest, prime) for rest in range(modulus)]
+                self.assertNotEqual(sum(numbers) % prime, 0)
+                self.assertEqual(sum(numbers) % prime, binomial_rest(x + across + y, x + across, prime))
+                for rest in (0, modulus // 3):
+                    before = far_paths(x + across, y + 1, modulus, rest, prime)
+                    before += far_paths(x + across + 1, y, modulus, (rest - x - across - 1) % modulus, prime)
+                    self.assertEqual(far_paths(x + across + 1, y + 1, modulus, rest, prime), before % prime)
+
     def test_wrong_kinds(self):
         for value in values_of_all_kinds():
             for at, least in enumerate((0, 0, 1, 0, 2)):
@@ -164,8 +178,9 @@ class RestsTest(unittest.TestCase):
 
     def test_wrong_sizes(self):
         for value in (31, 32, FAR):
-            assert_raises(self, BadNumber, {"value": value}, paths_by_rest, 2001, 2, value, value)
-            assert_raises(self, BadNumber, {"value": value}, far_paths, 2, 2, value, value, 4)
+            for rest in (0, value + 1):
+                assert_raises(self, BadNumber, {"value": value}, paths_by_rest, 2001, 2, value, rest)
+                assert_raises(self, BadNumber, {"value": value}, far_paths, 2, 2, value, rest, 4)
         for modulus in (1, 2, 29, 30):
             for rest in (modulus, modulus + 1, FAR):
                 assert_raises(self, BadNumber, {"value": rest}, paths_by_rest, 2001, 2, modulus, rest)

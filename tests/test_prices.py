@@ -130,7 +130,8 @@ class PricesTest(unittest.TestCase):
         for _ in range(1000):
             high, wide = sorted([chance.randint(2, chance.choice((9, 2000))) for _ in range(2)])
             product = chance.randint(2, chance.choice((10, 10 ** 4, 10 ** 7)))
-            across, up = [chance.randint(0, chance.choice((1, 9, 2 * product))) for _ in range(2)]
+            reaches = 1, 9, isqrt(product), 2 * isqrt(product), 2 * product
+            across, up = [chance.randint(0, chance.choice(reaches)) for _ in range(2)]
             if across * up < product:
                 bargain = Bargain(across, up, product, wide, high)
                 costs = []
